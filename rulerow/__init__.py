@@ -1,0 +1,1 @@
+"""Rulerow: rows in which each number comes of those ahead by one rule."""
