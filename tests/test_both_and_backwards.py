@@ -1,13 +1,8 @@
-import itertools
 import unittest
 
 from rulerow.errors import NoWay
 from rulerow.rules import backwards, both, makes
-from tests.samples import PRIMES, SOME_PRIMES, numbers, plain_go_on
-
-
-def small_rules(prime, longest):
-    return [list(rule) for n in range(longest + 1) for rule in itertools.product(range(prime), repeat=n)]
+from tests.samples import PRIMES, SOME_PRIMES, numbers, plain_go_on, small_lists
 
 
 def made_rows(prime, rule, count):
@@ -51,8 +46,8 @@ class Both(unittest.TestCase):
 
     def test_every_small_rule(self):
         for prime in [2, 3]:
-            for one in small_rules(prime, 2):
-                for other in small_rules(prime, 2):
+            for one in small_lists(prime, 2):
+                for other in small_lists(prime, 2):
                     self.check(prime, one, other)
 
     def test_a_rule_with_itself(self):
@@ -103,7 +98,7 @@ class Backwards(unittest.TestCase):
 
     def test_every_small_rule(self):
         for prime in [2, 3, 5]:
-            for rule in small_rules(prime, 3):
+            for rule in small_lists(prime, 3):
                 if rule == [] or rule[-1] != 0:
                     self.check(prime, rule)
 

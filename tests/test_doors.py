@@ -3,8 +3,10 @@
 import copy
 import unittest
 
-from rulerow.errors import BadPlace, BadPrime, BadRow, BadRule, NoWay, TooFew
+from rulerow.errors import BadPlace, BadPrime, BadRow, BadRule, BadText, NoWay, TooFew
+from rulerow.least import least, unlike
 from rulerow.rules import backwards, both, far, go_on, makes
+from rulerow.texts import read, written
 from tests.samples import HUGE, SOME_PRIMES, bad_lists, bad_primes, no_numbers, numbers
 
 
@@ -23,6 +25,9 @@ class WrongThings(Doors):
             self.refused(BadPrime, far, wrong, [1], [1], 1)
             self.refused(BadPrime, both, wrong, [1], [1])
             self.refused(BadPrime, backwards, wrong, [1])
+            self.refused(BadPrime, least, wrong, [1])
+            self.refused(BadPrime, unlike, wrong, [1])
+            self.refused(BadPrime, written, wrong, [1])
 
     def test_no_prime_though_nothing_is_reckoned(self):
         for wrong in [True, 0, 1, 4, 1009, None]:
@@ -31,6 +36,9 @@ class WrongThings(Doors):
             self.refused(BadPrime, far, wrong, [], [], 0)
             self.refused(BadPrime, both, wrong, [], [])
             self.refused(BadPrime, backwards, wrong, [])
+            self.refused(BadPrime, least, wrong, [])
+            self.refused(BadPrime, unlike, wrong, [])
+            self.refused(BadPrime, written, wrong, [])
 
     def test_no_rule(self):
         for prime in [2, 5, 997]:
@@ -52,6 +60,9 @@ class WrongThings(Doors):
                 self.refused(BadRow, makes, prime, [], wrong)
                 self.refused(BadRow, go_on, prime, [], wrong, 0)
                 self.refused(BadRow, far, prime, [], wrong, 0)
+                self.refused(BadRow, least, prime, wrong)
+                self.refused(BadRow, unlike, prime, wrong)
+                self.refused(BadRow, written, prime, wrong)
 
     def test_a_wrong_rest_behind_the_first_wrong_number_of_a_row(self):
         self.refused(BadRow, makes, 5, [1], [1, 2, 3, 5])
@@ -76,6 +87,10 @@ class WrongThings(Doors):
 
     def test_no_way(self):
         self.refused(NoWay, backwards, 5, [1, 2, 0])
+
+    def test_no_text(self):
+        for wrong in no_numbers() + [7, HUGE, [], ["7:"], (7, []), "7", "7: 7", "8: 1", "7:1"]:
+            self.refused(BadText, read, wrong)
 
 
 class WhichComesFirst(Doors):
@@ -116,6 +131,15 @@ class WhichComesFirst(Doors):
         self.refused(BadRule, backwards, 5, [1, False])
         self.refused(BadRule, backwards, 5, [1, 5])
 
+    def test_least_unlike_and_written(self):
+        for function in [least, unlike, written]:
+            self.refused(BadPrime, function, None, None)
+            self.refused(BadPrime, function, 4, [9])
+            self.refused(BadPrime, function, True, [True])
+            self.refused(BadPrime, function, 1009, (0, 1))
+            self.refused(BadPrime, function, [1], 5)
+            self.refused(BadRow, function, 5, [1, 5])
+
 
 class Names(unittest.TestCase):
     def test_the_arguments_are_called_as_the_interface_says(self):
@@ -124,6 +148,10 @@ class Names(unittest.TestCase):
         self.assertEqual(far(prime=5, rule=[1], row=[2], place=9), 2)
         self.assertEqual(both(prime=5, one=[1], other=[]), [1])
         self.assertEqual(backwards(prime=5, rule=[2]), [3])
+        self.assertEqual(least(prime=5, row=[1, 2]).rule, [2])
+        self.assertEqual(unlike(prime=5, row=[1, 2]).rule, [2])
+        self.assertEqual(written(prime=5, row=[1, 2]), "5: 1 2")
+        self.assertEqual(read(text="5: 1 2"), (5, [1, 2]))
 
 
 def cases():
@@ -144,7 +172,38 @@ def cases():
         (backwards, [7, [1, 2]]),
         (backwards, [7, [1]]),
         (backwards, [7, []]),
-    ]
+        (written, [7, [1, 2]]),
+        (written, [7, []]),
+        (read, ["7: 1 2"]),
+    ] + [(least_told, [7, row]) for row in rows()] + [(unlike_told, [7, row]) for row in rows()]
+
+
+def rows():
+    return [[], [0, 0], [1], [0, 0, 1], [1, 2, 4, 1], [1, 2, 4, 2], [0, 1, 1, 2, 3, 5, 1], [3, 1, 4, 1, 5]]
+
+
+def least_told(prime, row):
+    return vars(least(prime, row))
+
+
+def unlike_told(prime, row):
+    return vars(unlike(prime, row))
+
+
+def lists_within(told):
+    """The lists that may be changed in what a function told."""
+    if isinstance(told, list):
+        return [told]
+    if isinstance(told, dict):
+        return [thing for thing in told.values() if isinstance(thing, list)]
+    if isinstance(told, tuple):
+        return [thing for thing in told if isinstance(thing, list)]
+    return []
+
+
+def spoil(thing):
+    thing.append(5)
+    thing[0] = 6
 
 
 class NothingChangedOrKept(unittest.TestCase):
@@ -157,7 +216,8 @@ class NothingChangedOrKept(unittest.TestCase):
     def test_what_is_refused_stays_as_it_was(self):
         for function, given in [
             (makes, [7, [1, 1], [0, 7]]), (go_on, [7, [1, 1], [0], 3]), (far, [7, [1, 1], [0, 1], -1]),
-            (both, [7, [1], [7]]), (backwards, [7, [1, 0]]),
+            (both, [7, [1], [7]]), (backwards, [7, [1, 0]]), (least, [7, [1, 7]]), (unlike, [7, [1, 7]]),
+            (written, [7, [1, 7]]),
         ]:
             earlier = copy.deepcopy(given)
             self.assertRaises(ValueError, function, *given)
@@ -167,12 +227,19 @@ class NothingChangedOrKept(unittest.TestCase):
         for function, given in cases():
             earlier = copy.deepcopy(given)
             told = function(*given)
-            if isinstance(told, list):
-                kept = list(told)
-                told.append(5)
-                told[0] = 6
-                self.assertEqual(given, earlier)
-                self.assertEqual(function(*given), kept)
+            kept = copy.deepcopy(told)
+            for thing in lists_within(told):
+                spoil(thing)
+            self.assertEqual(given, earlier)
+            self.assertEqual(function(*given), kept)
+
+    def test_changing_one_list_told_leaves_the_others(self):
+        for function, given in cases():
+            lists = lists_within(function(*given))
+            for k, thing in enumerate(lists):
+                others = copy.deepcopy(lists[:k] + lists[k + 1:])
+                spoil(thing)
+                self.assertEqual(lists[:k] + lists[k + 1:], others)
 
     def test_changing_what_was_handed_in_changes_nothing_told(self):
         for function, given in cases():
@@ -181,8 +248,7 @@ class NothingChangedOrKept(unittest.TestCase):
             kept = copy.deepcopy(told)
             for thing in given:
                 if isinstance(thing, list):
-                    thing.append(3)
-                    thing[0] = 4
+                    spoil(thing)
             self.assertEqual(told, kept)
             self.assertEqual(function(*fresh), kept)
 

@@ -29,6 +29,9 @@ NODES = (
     ast.ListComp, ast.comprehension, ast.Lambda, ast.JoinedStr, ast.FormattedValue, ast.expr_context,
     ast.operator, ast.unaryop, ast.boolop, ast.cmpop,
 )
+NO_VALUES = set(
+    "items keys values pop update append clear extend insert remove reverse setdefault sort args encode format".split()
+)
 METHODS_WITH_UNDERSCORES = ("__init__", "__eq__", "__repr__", "__str__", "__len__")
 
 
@@ -113,6 +116,44 @@ class TheForm(unittest.TestCase):
         for name, node in nodes():
             if isinstance(node, ast.Call) and isinstance(node.func, ast.Attribute):
                 self.assertIn(node.func.attr, OWN_METHODS | own, (name, node.lineno))
+
+    def test_no_name_is_both_a_method_and_a_value(self):
+        methods = set()
+        for _, node in nodes():
+            if isinstance(node, ast.ClassDef):
+                names = [part.name for part in node.body if isinstance(part, ast.FunctionDef)]
+                self.assertEqual(len(names), len(set(names)), node.name)
+                self.assertLessEqual(len(node.bases), 1, node.name)
+                methods.update(names)
+        for name, node in nodes():
+            if isinstance(node, ast.Attribute) and isinstance(node.ctx, ast.Store):
+                self.assertIsInstance(node.value, ast.Name, (name, node.lineno))
+                self.assertNotIn(node.attr, methods | NO_VALUES, (name, node.lineno))
+
+    def test_texts_hold_no_percent_sign(self):
+        for name, node in nodes():
+            if isinstance(node, ast.Constant) and isinstance(node.value, str):
+                self.assertNotIn("%", node.value, (name, node.lineno))
+
+    def test_classes_are_not_handed_on(self):
+        classes = {node.name for _, node in nodes() if isinstance(node, ast.ClassDef)}
+        for name, tree in trees():
+            placed = [part for node in ast.walk(tree) for part in places_of_a_class(node)]
+            for node in ast.walk(tree):
+                if isinstance(node, ast.Name) and node.id in classes:
+                    self.assertIn(node, placed, (name, node.lineno))
+
+
+def places_of_a_class(node):
+    """Where a class may stand: called, as a base, raised, taken, or asked for by isinstance."""
+    if isinstance(node, ast.ClassDef):
+        return node.bases
+    if isinstance(node, ast.Call):
+        asked = isinstance(node.func, ast.Name) and node.func.id == "isinstance"
+        return [node.func] + (node.args[1:] if asked else [])
+    if isinstance(node, ast.ExceptHandler):
+        return [node.type]
+    return []
 
 
 if __name__ == "__main__":

@@ -1,8 +1,7 @@
-import itertools
 import unittest
 
 from rulerow.rules import makes
-from tests.samples import SOME_PRIMES, numbers, plain_go_on, plain_makes
+from tests.samples import SOME_PRIMES, numbers, plain_go_on, plain_makes, small_lists
 
 
 class WhatARuleMakes(unittest.TestCase):
@@ -20,9 +19,8 @@ class WhatARuleMakes(unittest.TestCase):
 
     def test_every_small_rule_and_row(self):
         for prime, longest_rule, longest_row in [(2, 3, 6), (3, 2, 4)]:
-            rules = [list(r) for n in range(longest_rule + 1) for r in itertools.product(range(prime), repeat=n)]
-            rows = [list(r) for n in range(longest_row + 1) for r in itertools.product(range(prime), repeat=n)]
-            for rule in rules:
+            rows = small_lists(prime, longest_row)
+            for rule in small_lists(prime, longest_rule):
                 for row in rows:
                     self.assertIs(makes(prime, rule, row), plain_makes(prime, rule, row), (prime, rule, row))
 
